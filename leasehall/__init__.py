@@ -1,0 +1,1 @@
+"""Leasehall: a distributed cache whose reads say how fresh they are."""
