@@ -1,0 +1,115 @@
+"""The interface: each name is defined in its own file, each method in its class."""
+
+import ast
+import inspect
+import pathlib
+import unittest
+
+PACKAGE = pathlib.Path(__file__).resolve().parent.parent / "leasehall"
+
+FUNCTIONS = {
+    "records": {
+        "contains": "cover key",
+        "meets": "first second",
+        "includes": "outer inner",
+        "touches": "group cover",
+        "is_group": "writes",
+        "cover_of": "question",
+        "ask": "records question",
+        "apply": "records group",
+    },
+    "ledger": {
+        "at": "ledger moment",
+        "moment_at": "ledger time",
+        "first_touch": "ledger moment covers",
+    },
+    "promises": {
+        "reach": "ledger questions moment",
+        "results": "ledger questions moment",
+        "is_right": "ledger time floor read answer",
+    },
+    "checker": {
+        "is_true": "ledger leases time statement",
+        "accepts": "ledger leases time floor read answer",
+    },
+}
+CLASSES = {
+    "errors": {
+        "CacheError": {},
+        "NotFound": {},
+        "Full": {},
+        "IsDown": {},
+        "IsUp": {},
+        "Malformed": {"__init__": "self index"},
+    },
+    "store": {
+        "Store": {
+            "__init__": "self host_count lease_length",
+            "handle": "self letter time",
+            "settle": "self time",
+            "beat": "self time",
+            "fall": "self",
+            "rise": "self time",
+            "is_up": "self",
+            "moment": "self",
+            "ledger": "self",
+            "pending": "self",
+            "leases": "self",
+        }
+    },
+    "network": {
+        "Network": {
+            "__init__": "self",
+            "send": "self is_up letter",
+            "letters": "self",
+            "deliver": "self index",
+            "lose": "self index",
+            "double": "self index",
+        }
+    },
+    "entries": {
+        "Entry": {
+            "__init__": "self cover moment records stamp",
+            "weight": "self",
+            "answers": "self question",
+            "patch": "self group",
+            "told": "self",
+        }
+    },
+}
+
+
+def definitions(nodes, kind):
+    return {node.name: node for node in nodes if isinstance(node, kind)}
+
+
+def parameters(function):
+    return " ".join(argument.arg for argument in function.args.args)
+
+
+class Interface(unittest.TestCase):
+    def body(self, name):
+        return ast.parse((PACKAGE / (name + ".py")).read_text()).body
+
+    def test_functions(self):
+        for name, functions in FUNCTIONS.items():
+            defined = definitions(self.body(name), ast.FunctionDef)
+            for function, names in functions.items():
+                self.assertEqual(parameters(defined[function]), names, (name, function))
+
+    def test_classes(self):
+        for name, classes in CLASSES.items():
+            defined = definitions(self.body(name), ast.ClassDef)
+            for word, methods in classes.items():
+                found = definitions(defined[word].body, ast.FunctionDef)
+                for method, names in methods.items():
+                    self.assertEqual(parameters(found[method]), names, (word, method))
+
+    def test_modules_import(self):
+        for name in list(FUNCTIONS) + list(CLASSES):
+            module = __import__("leasehall." + name, fromlist=["x"])
+            self.assertTrue(inspect.ismodule(module))
+
+
+if __name__ == "__main__":
+    unittest.main()
