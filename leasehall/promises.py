@@ -47,3 +47,32 @@ def is_right(ledger, time, floor, read, answer):
     # The commit after the reach is the first one that the answer misses.
     missed_at, _ = ledger[end]
     return promise[0] == "age" and missed_at >= time - promise[1]
+
+
+def copied_read(read):
+    """Return an equal read with a list of its own."""
+    number, session, questions, promise = read
+    return (number, session, list(questions), promise)
+
+
+def copied_answer(answer):
+    """Return an equal answer with lists of its own."""
+    given, moment, evidence = answer
+    return (list(given), moment, list(evidence))
+
+
+def session_of(event):
+    """Return the session that an event told by a host is about."""
+    if event[0] == "written":
+        return event[1]
+    return event[1][1]
+
+
+def floors_after(floors, event):
+    """Return the dict of the floors after a host told an event."""
+    grown = dict(floors)
+    session = session_of(event)
+    moment = event[3] if event[0] == "written" else event[2][1]
+    if moment > grown.get(session, 0):
+        grown[session] = moment
+    return grown

@@ -97,3 +97,8 @@ def after_writes(records, writes):
 def apply(records, group):
     """Return the dict after the writes of a group."""
     return after_writes(records, group)
+
+
+def patched(records, cover, group):
+    """Return the dict after those writes of a group whose keys a cover contains."""
+    return after_writes(records, [(key, value) for key, value in group if contains(cover, key)])

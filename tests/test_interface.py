@@ -32,6 +32,22 @@ FUNCTIONS = {
         "is_true": "ledger leases time statement",
         "accepts": "ledger leases time floor read answer",
     },
+    "paging": {
+        "oldest_removals": "keys places",
+        "farthest_removals": "keys places",
+        "is_valid": "keys places removals",
+        "fetch_count": "keys places removals",
+        "phase_starts": "keys places",
+    },
+    "ring": {
+        "spot": "text",
+    },
+    "notation": {
+        "write_event": "event",
+        "write_history": "world",
+        "read_event": "line",
+        "read_history": "lines",
+    },
 }
 CLASSES = {
     "errors": {
@@ -74,6 +90,55 @@ CLASSES = {
             "answers": "self question",
             "patch": "self group",
             "told": "self",
+        }
+    },
+    "host": {
+        "Host": {
+            "__init__": "self index room error_bound",
+            "handle": "self letter reading floors",
+            "ask": "self read reading floors",
+            "nudge": "self reading floors",
+            "write": "self session group",
+            "open_fetch": "self cover",
+            "open_lease": "self cover",
+            "fall": "self",
+            "give_up": "self number",
+            "incarnation": "self",
+            "mark": "self",
+            "waiting": "self",
+            "entries": "self",
+            "leases": "self",
+            "statements": "self",
+            "requests": "self",
+        }
+    },
+    "ring": {
+        "Ring": {
+            "__init__": "self",
+            "add": "self host places",
+            "remove": "self host",
+            "hosts": "self",
+            "points": "self",
+            "homes": "self key",
+            "home": "self key",
+        }
+    },
+    "world": {
+        "World": {
+            "__init__": "self rooms error_bound lease_length",
+            "act": "self event",
+            "calm_round": "self",
+            "time": "self",
+            "reading": "self host",
+            "floors": "self",
+            "letters": "self",
+            "crowded_out": "self",
+            "store": "self",
+            "host": "self index",
+            "is_up": "self host",
+            "answers": "self",
+            "history": "self",
+            "waiting": "self",
         }
     },
 }

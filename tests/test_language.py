@@ -5,6 +5,8 @@ import pathlib
 import re
 import unittest
 
+from leasehall import errors
+
 PACKAGE = pathlib.Path(__file__).resolve().parent.parent / "leasehall"
 FILES = sorted(path for path in PACKAGE.rglob("*") if "__pycache__" not in path.parts)
 
@@ -18,6 +20,7 @@ STATEMENTS = (
     ast.Break,
     ast.Continue,
     ast.Raise,
+    ast.Try,
     ast.Expr,
     ast.FunctionDef,
     ast.ClassDef,
@@ -30,9 +33,16 @@ BUILTINS = {
 }
 METHODS = {
     "append", "clear", "copy", "count", "endswith", "extend", "find", "get", "index", "insert",
-    "items", "join", "keys", "pop", "remove", "replace", "reverse", "setdefault", "split",
-    "startswith", "update", "values",
+    "items", "join", "keys", "partition", "pop", "remove", "replace", "reverse", "setdefault",
+    "split", "startswith", "update", "values",
 }
+CHANGES = {"append", "clear", "extend", "insert", "pop", "remove", "reverse", "setdefault", "update"}
+BARRED = {
+    "attrgetter", "breakpoint", "builtins", "compile", "copyright", "credits", "delattr", "dir",
+    "eval", "exec", "exit", "gc", "getattr", "globals", "hasattr", "help", "id", "importlib",
+    "license", "locals", "methodcaller", "os", "quit", "setattr", "super", "sys", "type", "vars",
+}
+BUILTIN_ATTRIBUTES = set().union(*[dir(kind) for kind in (str, int, list, dict, set, bytes)])
 NEVER = {"register", "mro", "elements", "open", "input", "law", "version_info", "add_note"}
 WORDS = [
     "type", "typing", "enum", "Enum", "Flag", "Generic", "Protocol", "ABC", "namedtuple",
@@ -88,7 +98,8 @@ class Language(unittest.TestCase):
             for node in ast.walk(tree):
                 if isinstance(node, ast.stmt):
                     self.assertIsInstance(node, STATEMENTS, (name, node.lineno))
-                self.assertNotIsInstance(node, (ast.Div, ast.NamedExpr, ast.Set), name)
+                barred = (ast.Div, ast.NamedExpr, ast.Set, ast.SetComp, ast.Starred, ast.Yield)
+                self.assertNotIsInstance(node, barred, name)
 
     def test_imports(self):
         stems = {path.stem for path in FILES}
@@ -127,18 +138,75 @@ class Language(unittest.TestCase):
                 self.assertNotIn(bound, barred | NEVER | taken, name)
                 self.assertTrue(re.fullmatch(r"_|_?[A-Za-z][A-Za-z0-9_]*", bound), (name, bound))
 
+    def test_names_that_are_barred(self):
+        for name, tree in trees():
+            for node in ast.walk(tree):
+                if isinstance(node, ast.FunctionDef):
+                    self.assertNotIn(node.name, BARRED | NEVER, name)
+                if isinstance(node, (ast.arg, ast.Name)):
+                    bound = node.arg if isinstance(node, ast.arg) else node.id
+                    self.assertNotIn(bound, BARRED | NEVER, name)
+
+    def test_methods_and_attributes(self):
+        for name, tree in trees():
+            for node in ast.walk(tree):
+                if not isinstance(node, ast.ClassDef):
+                    continue
+                methods = [part.name for part in node.body if isinstance(part, ast.FunctionDef)]
+                self.assertEqual(len(methods), len(set(methods)), (name, node.name))
+                taken = (BUILTIN_ATTRIBUTES - METHODS) | {"sort", "encode", "decode", "format"}
+                for method in methods:
+                    if not method.startswith("__"):
+                        self.assertNotIn(method, taken - {"add", "discard"}, (name, node.name))
+                for part in ast.walk(node):
+                    if isinstance(part, ast.Attribute) and isinstance(part.ctx, ast.Store):
+                        self.assertNotIn(part.attr, methods, (name, node.name))
+                        self.assertNotIn(part.attr, BUILTIN_ATTRIBUTES - {"index"}, name)
+
+    def test_handlers_name_own_errors(self):
+        for name, tree in trees():
+            for node in ast.walk(tree):
+                if isinstance(node, ast.ExceptHandler):
+                    self.assertIsInstance(node.type, ast.Name, name)
+                    self.assertTrue(hasattr(errors, node.type.id), (name, node.lineno))
+
+    def test_is_stands_beside_none(self):
+        for name, tree in trees():
+            for node in ast.walk(tree):
+                if isinstance(node, ast.Compare) and isinstance(node.ops[0], (ast.Is, ast.IsNot)):
+                    self.assertIsInstance(node.comparators[0], ast.Constant, (name, node.lineno))
+
+    def test_what_a_loop_iterates_over_is_not_modified_in_it(self):
+        for name, tree in trees():
+            for node in ast.walk(tree):
+                if not isinstance(node, ast.For):
+                    continue
+                over = {ast.unparse(part) for part in ast.walk(node.iter) if not self.is_copy(node.iter)}
+                for part in ast.walk(node):
+                    if isinstance(part, ast.Call) and isinstance(part.func, ast.Attribute):
+                        if part.func.attr in CHANGES:
+                            self.assertNotIn(ast.unparse(part.func.value), over, (name, part.lineno))
+                    if isinstance(part, ast.Subscript) and isinstance(part.ctx, ast.Store):
+                        self.assertNotIn(ast.unparse(part.value), over, (name, part.lineno))
+
+    def is_copy(self, node):
+        return isinstance(node, ast.Call) and ast.unparse(node.func) in ("list", "sorted", "range")
+
     def test_builtins_and_methods(self):
         own = set()
+        parameters = set()
         for _, tree in trees():
             for node in ast.walk(tree):
                 if isinstance(node, (ast.FunctionDef, ast.ClassDef)):
                     own.add(node.name)
+                if isinstance(node, ast.arg):
+                    parameters.add(node.arg)
         for name, tree in trees():
             for node in ast.walk(tree):
                 if not isinstance(node, ast.Call):
                     continue
                 if isinstance(node.func, ast.Name):
-                    self.assertIn(node.func.id, BUILTINS | own, (name, node.lineno))
+                    self.assertIn(node.func.id, BUILTINS | own | parameters, (name, node.lineno))
                 else:
                     self.assertIn(node.func.attr, METHODS | own, (name, node.lineno))
 
