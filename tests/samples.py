@@ -33,6 +33,16 @@ def some_question(chance):
     return (word,) + some_cover(chance)
 
 
+def some_view_question(chance):
+    word = chance.choice(["top", "top", "where", "where", "plain", "plain", "plain"])
+    if word == "top":
+        return ("top", chance.randint(1, 9)) + some_cover(chance)
+    if word == "where":
+        low, high = chance.choice([-999, -1, 0, 1, 999]), chance.choice([-999, -1, 0, 1, 999])
+        return ("where", low, high) + some_cover(chance)
+    return some_question(chance)
+
+
 def seeded(seed):
     return random.Random(seed)
 

@@ -48,6 +48,14 @@ FUNCTIONS = {
         "read_event": "line",
         "read_history": "lines",
     },
+    "views": {
+        "ask_view": "records question",
+        "make_view": "question records",
+    },
+    "crediting": {
+        "credit_removals": "keys places costs",
+        "removal_cost": "keys places removals costs",
+    },
 }
 CLASSES = {
     "errors": {
@@ -139,6 +147,35 @@ CLASSES = {
             "answers": "self",
             "history": "self",
             "waiting": "self",
+        }
+    },
+    "views": {
+        "View": {
+            "take": "self group",
+            "answer": "self",
+        }
+    },
+    "board": {
+        "Board": {
+            "__init__": "self",
+            "add": "self number question records moment",
+            "remove": "self number",
+            "note": "self c group",
+            "mark": "self",
+            "numbers": "self",
+            "answer": "self number",
+        }
+    },
+    "relay": {
+        "Relay": {
+            "__init__": "self index below room error_bound",
+            "take_down": "self letter reading",
+            "take_up": "self letter reading",
+            "beat": "self",
+            "nudge": "self reading",
+            "fall": "self",
+            "host": "self",
+            "holders": "self",
         }
     },
 }

@@ -6,15 +6,10 @@ import unittest
 from leasehall.paging import (
     farthest_removals, fetch_count, is_valid, oldest_removals, phase_starts,
 )
+from removal_lists import all_valid, some_keys
 from samples import seeded
 
 N = None
-
-
-def some_keys(chance, length=None):
-    length = chance.randint(0, 60) if length is None else length
-    letters = "abcdefghijkl"[: chance.randint(1, 12)]
-    return [chance.choice(letters) for _ in range(length)]
 
 
 def plain_removals(keys, places, rule):
@@ -40,22 +35,6 @@ def plain_farthest(keys, now, held):
         return min([at for at in range(now, len(keys)) if keys[at] == key], default=1000)
 
     return max(held, key=lambda key: (following(key), [-ord(c) for c in key]))
-
-
-def all_valid(keys, places):
-    """All valid removal lists."""
-    lists = [([], ())]
-    for key in keys:
-        longer = []
-        for removals, held in lists:
-            if key in held or len(held) < places:
-                longer.append((removals + [N], held if key in held else held + (key,)))
-                continue
-            for out in held:
-                left = tuple(other for other in held if other != out)
-                longer.append((removals + [out], left + (key,)))
-        lists = longer
-    return [removals for removals, _ in lists]
 
 
 class Oldest(unittest.TestCase):
