@@ -41,9 +41,9 @@ class Runs(unittest.TestCase):
                 self.check(bench, told)
                 self.count(counts, told)
                 if step % 60 == 59:
-                    told = bench.let_all_arrive()
-                    self.check(bench, told)
-                    self.count(counts, told)
+                    for told in bench.arrivals():
+                        self.check(bench, told)
+                        self.count(counts, told)
                     bench.let_pass(1)
                     bench.beat()
         self.assertTrue(all(count > 50 for count in counts.values()), counts)
@@ -71,7 +71,6 @@ class Runs(unittest.TestCase):
         self.assertEqual(bench.read(0, "s", read, ("newest",)), [])
         told = bench.let_all_arrive()
         self.assertEqual([event[2][:2] for event in told], [([5, 5], 1)])
-        self.check(bench, told)
         granted = len(bench.store.leases())
         told = bench.read(1, "t", read, ("newest",)) + bench.let_all_arrive()
         # The second host below is served by the leases that the relay has.
@@ -82,13 +81,11 @@ class Runs(unittest.TestCase):
         bench = Bench(400, [400, 400], 0, 20)
         for host in [0, 1]:
             bench.read(host, "s", [("get", "a")], ("newest",))
-        told = bench.let_all_arrive()
-        self.assertEqual(len(told), 2)
-        bench.grow(told)
+        self.assertEqual(len(bench.let_all_arrive()), 2)
         bench.write((("a", 5),))
         self.assertEqual(bench.store.moment(), 0)
         bench.beat()
-        self.check(bench, bench.let_all_arrive())
+        bench.let_all_arrive()
         self.assertEqual(bench.store.moment(), 1)
         told = bench.read(0, "s", [("get", "a")], ("newest",)) + bench.let_all_arrive()
         self.assertEqual([event[2][:2] for event in told], [([5], 1)])

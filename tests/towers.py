@@ -75,17 +75,23 @@ class Bench:
         self.reads += 1
         return self.from_host(self.hosts[host].ask(read, self.reading(host), self.floors))
 
-    def let_all_arrive(self):
-        """Nudge everyone and deliver what is held; return what is told."""
+    def arrivals(self):
+        """Nudge everyone and deliver what is held; yield what is told after each step."""
         self.from_relay(self.relay.nudge(self.reading(-1)))
-        told = []
         for index, host in enumerate(self.hosts):
-            told.extend(self.from_host(host.nudge(self.reading(index), self.floors)))
+            yield self.from_host(host.nudge(self.reading(index), self.floors))
         for _ in range(1000):
             for name in ["upper", "lower"]:
                 if getattr(self, name).letters():
-                    told.extend(self.deliver(name, 0))
-        return told
+                    yield self.deliver(name, 0)
+
+    def let_all_arrive(self):
+        """Do the same at once, and return all that is told."""
+        events = []
+        for told in self.arrivals():
+            self.grow(told)
+            events.extend(told)
+        return events
 
     def beat(self):
         """Let everyone who can beat do so."""
