@@ -7,8 +7,8 @@ A lease is a tuple
 
 def is_active(lease, time):
     """Tell whether a lease has neither been returned nor ended."""
-    _, _, _, _, until, _, _, is_returned = lease
-    return not is_returned and time < until
+    until = lease[4]
+    return not is_returned(lease) and time < until
 
 
 def owner_of(lease):
@@ -29,6 +29,11 @@ def leased_cover(lease):
 def granted_at(lease):
     """Return the moment at which a lease was granted."""
     return lease[5]
+
+
+def is_returned(lease):
+    """Tell whether a lease has been returned."""
+    return lease[7]
 
 
 def as_returned(lease):

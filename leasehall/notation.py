@@ -120,10 +120,10 @@ def _read_write(parts):
     return (word, read_number("index", host), read_name(session), read_group(group))
 
 
-def read_integer(text):
+def read_integer(text, most_digits=MOST_DIGITS):
     """Return the integer of a text."""
     digits = text[1:] if text.startswith("-") else text
-    if not 1 <= len(digits) <= MOST_DIGITS or not all("0" <= digit <= "9" for digit in digits):
+    if not 1 <= len(digits) <= most_digits or not all("0" <= digit <= "9" for digit in digits):
         raise Malformed(0)
     number = int(text)
     # Zeros in front and a negative zero would be read, but are not written so.

@@ -56,6 +56,25 @@ FUNCTIONS = {
         "credit_removals": "keys places costs",
         "removal_cost": "keys places removals costs",
     },
+    "routing": {
+        "route": "ring up key",
+        "route_questions": "ring up questions",
+        "moves": "before after keys",
+    },
+    "bundles": {
+        "pack": "letters limit",
+        "unpack": "bundles",
+        "receiver": "item",
+    },
+    "lettertext": {
+        "write_letter": "letter",
+        "read_letter": "line",
+        "write_answer": "answer questions",
+        "read_answer": "text questions",
+    },
+    "transcript": {
+        "write_transcript": "lines",
+    },
 }
 CLASSES = {
     "errors": {

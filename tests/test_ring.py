@@ -5,9 +5,8 @@ import unittest
 
 from leasehall.errors import Full, NotFound
 from leasehall.ring import Ring, spot
+from rings import LETTERS, ring_of, some_keys, some_places, state
 from samples import seeded
-
-LETTERS = "abcdefghijklmnopqrstuvwxyz"
 
 
 def plain_spot(text):
@@ -25,29 +24,6 @@ def key_at(wanted):
 
 def label(host, place):
     return (LETTERS[host] + LETTERS[place]) * 2
-
-
-def ring_of(places):
-    ring = Ring()
-    for host, count in places.items():
-        ring.add(host, count)
-    return ring
-
-
-def some_places(chance):
-    hosts = chance.sample(range(26), chance.randint(1, 8))
-    return {host: chance.randint(1, 6) for host in hosts}
-
-
-def some_keys(chance, count=40):
-    words = []
-    for _ in range(count):
-        words.append("".join(chance.choice(LETTERS) for _ in range(chance.randint(1, 8))))
-    return words
-
-
-def state(ring):
-    return (ring.hosts(), ring.points())
 
 
 class Spots(unittest.TestCase):
