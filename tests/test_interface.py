@@ -75,6 +75,21 @@ FUNCTIONS = {
     "transcript": {
         "write_transcript": "lines",
     },
+    "auditor": {
+        "audit": "lines",
+    },
+    "explorer": {
+        "outcomes": "lines depth",
+    },
+    "shorten": {
+        "shorten": "lines number",
+    },
+    "rates": {
+        "rate": "numerator denominator",
+        "share": "world",
+        "mean_wait": "world",
+        "mean_lag": "world",
+    },
 }
 CLASSES = {
     "errors": {
@@ -195,6 +210,31 @@ CLASSES = {
             "fall": "self",
             "host": "self",
             "holders": "self",
+        }
+    },
+    "auditor": {
+        "Auditor": {
+            "__init__": "self",
+            "read": "self line",
+            "findings": "self",
+            "ledger": "self",
+            "time": "self",
+            "floors": "self",
+        }
+    },
+    "tower": {
+        "Tower": {
+            "__init__": "self relay_room rooms error_bound lease_length",
+            "act": "self event",
+            "time": "self",
+            "floors": "self",
+            "answers": "self",
+            "waiting": "self",
+            "letters": "self net",
+            "store": "self",
+            "relay": "self",
+            "host": "self index",
+            "is_up": "self who",
         }
     },
 }

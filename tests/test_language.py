@@ -26,6 +26,8 @@ STATEMENTS = (
     ast.ClassDef,
     ast.ImportFrom,
 )
+# What may be imported from the library, and is only called.
+LIBRARY = {"math": {"gcd"}}
 BUILTINS = {
     "len", "range", "enumerate", "zip", "min", "max", "sum", "abs", "sorted", "reversed",
     "int", "str", "bool", "list", "tuple", "dict", "set", "isinstance", "ord", "any", "all",
@@ -108,6 +110,9 @@ class Language(unittest.TestCase):
             for node in ast.walk(tree):
                 if isinstance(node, ast.ImportFrom):
                     self.assertEqual(node.level, 0, name)
+                    if node.module in LIBRARY:
+                        self.assertLessEqual({alias.name for alias in node.names}, LIBRARY[node.module])
+                        continue
                     package, _, stem = node.module.partition(".")
                     self.assertEqual(package, "leasehall", name)
                     self.assertIn(stem, stems, name)
@@ -206,7 +211,8 @@ class Language(unittest.TestCase):
                 if not isinstance(node, ast.Call):
                     continue
                 if isinstance(node.func, ast.Name):
-                    self.assertIn(node.func.id, BUILTINS | own | parameters, (name, node.lineno))
+                    names = BUILTINS | LIBRARY["math"] | own | parameters
+                    self.assertIn(node.func.id, names, (name, node.lineno))
                 else:
                     self.assertIn(node.func.attr, METHODS | own, (name, node.lineno))
 

@@ -10,7 +10,7 @@ from leasehall.promises import is_right
 from leasehall.store import Store
 from leasehall.world import World
 from samples import seeded
-from worlds import check_host, check_told, some_event, some_world, try_event, world_state
+from worlds import check_host, check_told, remembered, some_event, some_world, try_event, world_state
 
 ANY = ("any",)
 
@@ -75,11 +75,7 @@ class Mixed(unittest.TestCase):
             world = some_world(chance)
             for _ in range(150):
                 try_event(world, some_event(chance, world))
-            reads = [event for event in world.history() if event[0] == "read"]
-            for number, time, floor, commits, answer in world.answers():
-                _, _, session, questions, promise = reads[number]
-                ledger = world.store().ledger()[:commits]
-                read = (number, session, questions, promise)
+            for ledger, time, floor, read, answer in remembered(world):
                 self.assertTrue(is_right(ledger, time, floor, read, answer))
 
     def test_equal_histories_make_equal_worlds(self):

@@ -113,3 +113,11 @@ def check_told(case, told, floors, store, time):
             case.assertTrue(is_right(ledger, time, floor, read, answer), event)
         floors[session] = max(floors.get(session, 0), moment)
     return {session: floor for session, floor in floors.items() if floor > 0}
+
+
+def remembered(world):
+    """The answers of a world, each as (ledger, time, floor, read, answer) with the ledger of its time."""
+    reads = [event for event in world.history() if event[0] == "read"]
+    for number, time, floor, commits, answer in world.answers():
+        _, _, session, questions, promise = reads[number]
+        yield world.store().ledger()[:commits], time, floor, (number, session, questions, promise), answer
